@@ -1,0 +1,1 @@
+"""Takeleave: words that take from a stack and leave on it."""

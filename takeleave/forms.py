@@ -1,0 +1,28 @@
+"""Looking at nested values part by part."""
+
+
+def is_whole(thing):
+    """Whether anything is a whole number: an int that is no truth."""
+    return isinstance(thing, int) and not isinstance(thing, bool)
+
+
+def is_marked(thing):
+    """Whether anything is a tuple that begins with a text."""
+    return isinstance(thing, tuple) and len(thing) > 0 and isinstance(thing[0], str)
+
+
+def has_form(sort, thing, asked_within):
+    """Whether a thing is of a sort, where asked_within tells what that asks of its parts.
+
+    asked_within(sort, part) gives pairs (sort, part) that must hold in turn, or None where the part is not
+    of the sort whatever stands in it.
+    """
+    # A list of what is still to be asked, and no calls within calls: values may be nested deeper than calls may.
+    waiting = [(sort, thing)]
+    while waiting:
+        asked, part = waiting.pop()
+        inner = asked_within(asked, part)
+        if inner is None:
+            return False
+        waiting.extend(inner)
+    return True

@@ -1,0 +1,74 @@
+"""Values that several tests use."""
+
+import random
+
+from takeleave.words import SORTS_TAKEN
+
+
+class Touchy:
+    """An object that refuses to be compared, counted or asked for its truth."""
+
+    def __eq__(self, other):
+        raise RuntimeError("compared")
+
+    def __len__(self):
+        raise RuntimeError("counted")
+
+    def __bool__(self):
+        raise RuntimeError("asked for its truth")
+
+
+def nested(depth, mark=None):
+    """A tuple so many deep, each with a mark ahead if there is one."""
+    inside = ()
+    for at in range(depth - 1):
+        inside = (inside,) if mark is None else (mark, inside)
+    return inside
+
+
+def oddities():
+    """Values of all sorts, none of them a thing, a word, a row, a stack, a kind, a filling or a text of one."""
+    flat = [
+        None, True, False, 0, 1, -1, 10 ** 12, 10 ** 40, b"", b"number", b"a-a", [], [1], ["number", 1], {}, {"a": 1},
+        set(), frozenset(["a"]), range(3), object(), len, str, ..., NotImplemented, Touchy(), bytearray(b"a"),
+        " ", "-a", "A-", "a_", "number ", "[", "]", "{", "}", "[]", "\n", "\u00e9", "\u0661", "\ud800",
+    ]
+    tagged = [
+        (tag, held) for tag in ("number", "row", "list", "push", "open", "", b"number", None, 0, (), Touchy())
+        for held in ("", "1", None, True, False, -1, 10 ** 12, [], {}, set(), Touchy(), b"", [()], "Plus", "A1")
+    ]
+    tuples = [(None,), ("",), (0,), ((),), ([],), ("number", 1, 2), ("push", ()), ("push", ("number", True)),
+              (("number", 1), ("number", -1)), ("push", ("number", 1), ("number", 1))]
+    deep = [nested(100), nested(100, "row"), nested(100, "list"), nested(100, "push"), nested(100, "open")]
+    return flat + tagged + tuples + deep
+
+
+def things_in(seed, many):
+    """So many things made by chance from a seed, always the same."""
+    chance = random.Random(seed)
+    return [thing_by(chance, 4) for at in range(many)]
+
+
+def rows_in(seed, many):
+    """So many rows made by chance from a seed, always the same."""
+    chance = random.Random(seed)
+    return [row_by(chance, 4) for at in range(many)]
+
+
+def thing_by(chance, deep):
+    sort = chance.choice(("number", "row", "list")) if deep else "number"
+    if sort == "number":
+        return ("number", chance.choice((0, 1, 2, 10, 907, 10 ** 12 - 1)))
+    if sort == "row":
+        return ("row", row_by(chance, deep - 1))
+    return ("list", tuple([thing_by(chance, deep - 1) for at in range(chance.randrange(4))]))
+
+
+def row_by(chance, deep):
+    return tuple([word_by(chance, deep) for at in range(chance.randrange(5))])
+
+
+def word_by(chance, deep):
+    if deep and chance.randrange(2):
+        return ("push", thing_by(chance, deep - 1))
+    return chance.choice(sorted(SORTS_TAKEN) + ["-", "a-", "a-aa", "ab-ba", "abc-bca", "f", "plusone", "zzzzzzzz"])
