@@ -2,14 +2,16 @@
 
 from takeleave.errors import NoText
 
+# What each bracket opens or closes.
+OPENINGS = {"[": "row", "{": "list"}
+CLOSINGS = {"]": "row", "}": "list"}
+
 
 def marks_of_text(text):
-    """The marks of anything that is a text of marks with just one blank between any two."""
+    """The marks between the blanks of anything that is a text.
+
+    A blank at an end, and two together, give a mark without signs, which stands for nothing and is refused as such.
+    """
     if not isinstance(text, str):
         raise NoText("this is no text")
-    if text == "":
-        return []
-    marks = text.split(" ")
-    if "" in marks:
-        raise NoText("marks are parted by one blank, and none stands at an end")
-    return marks
+    return [] if text == "" else text.split(" ")

@@ -1,12 +1,9 @@
 """How rows and stacks are written and read."""
 
 from takeleave.errors import NoText
-from takeleave.marks import marks_of_text
+from takeleave.marks import CLOSINGS, OPENINGS, marks_of_text
 from takeleave.things import is_text_word
 from takeleave.words import is_figures
-
-OPENINGS = {"[": "row", "{": "list"}
-CLOSINGS = {"]": "row", "}": "list"}
 
 # Those of the greatest number, 10 ** 12 - 1.
 MOST_FIGURES = 12
@@ -48,8 +45,8 @@ def bracketed(thing):
     """The texts and things of a row or a list as a thing, with its brackets."""
     sort, parts = thing
     if sort == "row":
-        return ["[", *pieces_of(sort, parts), "]"]
-    return ["{", *pieces_of(sort, parts), "}"]
+        return ["["] + pieces_of(sort, parts) + ["]"]
+    return ["{"] + pieces_of(sort, parts) + ["}"]
 
 
 def read_row(text):

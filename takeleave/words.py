@@ -3,10 +3,7 @@
 SMALL_LETTERS = "abcdefghijklmnopqrstuvwxyz"
 FIGURES = "0123456789"
 
-# A thing of any sort may stand where a word asks for this one.
-ANY = "any"
-
-# The lowest thing first, as in the stack.
+# The sorts of things, the lowest first, as in the stack; "any" where a thing of each sort will do.
 SORTS_TAKEN = {
     "plus": ("number", "number"),
     "minus": ("number", "number"),
@@ -14,13 +11,13 @@ SORTS_TAKEN = {
     "less": ("number", "number"),
     "same": ("number", "number"),
     "do": ("row",),
-    "dip": (ANY, "row"),
+    "dip": ("any", "row"),
     "if": ("number", "row", "row"),
     "while": ("row", "row"),
     "repeat": ("number", "row"),
     "join": ("row", "row"),
-    "wrap": (ANY,),
-    "put": ("list", ANY),
+    "wrap": ("any",),
+    "put": ("list", "any"),
     "part": ("list", "row", "row"),
     "each": ("list", "row"),
 }

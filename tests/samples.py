@@ -72,3 +72,39 @@ def word_by(chance, deep):
     if deep and chance.randrange(2):
         return ("push", thing_by(chance, deep - 1))
     return chance.choice(sorted(SORTS_TAKEN) + ["-", "a-", "a-aa", "ab-ba", "abc-bca", "f", "plusone", "zzzzzzzz"])
+
+
+def row_kinds_in(seed, many):
+    """So many rows' kinds made by chance from a seed, always the same."""
+    chance = random.Random(seed)
+    return [(stack_kind_by(chance, 3), stack_kind_by(chance, 3)) for at in range(many)]
+
+
+def fillings_in(seed, many):
+    """So many fillings made by chance from a seed, always the same."""
+    chance = random.Random(seed)
+    return [filling_by(chance) for at in range(many)]
+
+
+def kind_by(chance, deep):
+    sort = chance.choice(("number", "open", "open", "list", "row")) if deep else chance.choice(("number", "open"))
+    if sort == "number":
+        return ("number",)
+    if sort == "open":
+        return ("open", chance.choice(("a", "b", "c", "z", "a1", "b20")))
+    if sort == "list":
+        return ("list", kind_by(chance, deep - 1))
+    return ("row", stack_kind_by(chance, deep - 1), stack_kind_by(chance, deep - 1))
+
+
+def stack_kind_by(chance, deep):
+    rest = chance.choice(("", "A", "A", "B", "C", "A1", "Z12"))
+    return (rest, tuple([kind_by(chance, deep) for at in range(chance.randrange(4))]))
+
+
+def filling_by(chance):
+    parts = {}
+    for name in ("A", "A1", "B", "Z12", "a", "a1", "b", "z"):
+        if chance.randrange(3):
+            parts[name] = kind_by(chance, 2) if name.islower() else stack_kind_by(chance, 2)
+    return tuple(sorted(parts.items(), key=lambda pair: pair[0]))

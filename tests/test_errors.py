@@ -53,6 +53,10 @@ class Refusals(unittest.TestCase):
         self.assertEqual(errors.NoBook(0, ("told",)).what, ("told",))
         self.assertEqual(errors.NoKind(()).places, ())
 
+    def test_each_says_why_in_a_text(self):
+        for name, error in made_all().items():
+            self.assertEqual([type(why) for why in error.args], [str], name)
+
     def test_texts_are_kept(self):
         for name in WITH_TEXT:
             self.assertEqual(str(made_all()[name]), "why", name)

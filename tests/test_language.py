@@ -39,6 +39,18 @@ def functions(tree):
     return [node for node in ast.walk(tree) if isinstance(node, ast.FunctionDef)]
 
 
+def attributes():
+    """The attributes that are assigned anywhere."""
+    return {node.attr for tree in trees().values() for node in ast.walk(tree)
+            if isinstance(node, ast.Attribute) and isinstance(node.ctx, ast.Store)}
+
+
+def methods():
+    """The methods of all classes."""
+    return {method.name for tree in trees().values() for node in tree.body if isinstance(node, ast.ClassDef)
+            for method in functions(node)}
+
+
 def bound_in(function):
     """The parameters and local variables of a function."""
     arguments = function.args
@@ -159,8 +171,7 @@ class Code(unittest.TestCase):
                 self.assertNotIn(function.name, BARRED_NAMES, name)
 
     def test_builtins_and_methods(self):
-        own = {node.attr for tree in trees().values() for node in ast.walk(tree)
-               if isinstance(node, ast.Attribute) and isinstance(node.ctx, ast.Store)}
+        own = attributes() | methods()
         for name, tree in trees().items():
             local = set(bound_at_top(tree))
             for function in functions(tree):
@@ -170,6 +181,11 @@ class Code(unittest.TestCase):
                     self.assertIn(node.id, BUILTINS, (name, node.lineno))
                 if isinstance(node, ast.Attribute):
                     self.assertIn(node.attr, METHODS | own, (name, node.lineno))
+
+    def test_attributes_and_methods_have_names_of_their_own(self):
+        self.assertEqual(attributes() & methods(), set())
+        for builtin in (str, int, list, dict, set, bytes, tuple):
+            self.assertEqual((attributes() | methods()) & set(dir(builtin)) - {"__init__"}, set())
 
     def test_is_stands_with_none_and_truths_only(self):
         for name, tree in trees().items():

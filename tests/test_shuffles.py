@@ -44,6 +44,14 @@ class IsShuffle(unittest.TestCase):
 
 class TakenLeft(unittest.TestCase):
 
+    def test_what_is_no_shuffle(self):
+        for text in ("", "a", "a-b", "ba-", "plus", "a--"):
+            with self.assertRaises(NoShuffle):
+                taken_left(text)
+        for n, picks in ((0, (0,)), (1, (1,)), (2, (0, 1, 2)), (2, (-1,)), (-1, ())):
+            with self.assertRaises(NoShuffle):
+                shuffle_of(n, picks)
+
     def test_as_it_is_written(self):
         for shuffle, pair in {
             "-": (0, ()),
