@@ -2,6 +2,8 @@
 
 import random
 
+from takeleave.fillings import filled_stack
+from takeleave.kindtexts import read_kind
 from takeleave.words import SORTS_TAKEN
 
 
@@ -108,3 +110,23 @@ def filling_by(chance):
         if chance.randrange(3):
             parts[name] = kind_by(chance, 2) if name.islower() else stack_kind_by(chance, 2)
     return tuple(sorted(parts.items(), key=lambda pair: pair[0]))
+
+
+def kind(text):
+    """The kind of things that a text is of."""
+    return read_kind(text + " --")[0][1][0]
+
+
+def stack(text):
+    """The kind of stacks that a text is of."""
+    return read_kind((text + " --").strip())[0]
+
+
+def filling(**parts):
+    """The filling with these texts for these names."""
+    made = {name: stack(text) if name.isupper() else kind(text) for name, text in parts.items()}
+    return tuple([(name, made[name]) for name in sorted(made)])
+
+
+def filled_row(row_kind, by):
+    return filled_stack(row_kind[0], by), filled_stack(row_kind[1], by)

@@ -7,7 +7,7 @@ from takeleave.kinds import is_kind, is_row_kind, is_stack_kind, opens_of, told_
 from takeleave.kindtexts import read_kind, show_kind
 from takeleave.shuffles import is_shuffle
 from takeleave.things import is_name, is_row, is_stack, is_thing, is_word
-from tests.samples import fillings_in, oddities, row_kinds_in
+from tests.samples import filled_row, filling, fillings_in, kind, oddities, row_kinds_in, stack
 
 NUMBER = ("number",)
 A, B, NONE = ("A", ()), ("B", ()), ("", ())
@@ -15,26 +15,6 @@ A, B, NONE = ("A", ()), ("B", ()), ("", ())
 
 def open_(name):
     return ("open", name)
-
-
-def kind(text):
-    """The kind of things that a text is of."""
-    return read_kind(text + " --")[0][1][0]
-
-
-def stack(text):
-    """The kind of stacks that a text is of."""
-    return read_kind((text + " --").strip())[0]
-
-
-def filling(**parts):
-    """The filling with these texts for these names."""
-    made = {name: stack(text) if name.isupper() else kind(text) for name, text in parts.items()}
-    return tuple([(name, made[name]) for name in sorted(made)])
-
-
-def filled_row(row_kind, by):
-    return filled_stack(row_kind[0], by), filled_stack(row_kind[1], by)
 
 
 class Forms(unittest.TestCase):

@@ -55,6 +55,7 @@ def bound_in(function):
     """The parameters and local variables of a function."""
     arguments = function.args
     names = [each.arg for each in arguments.posonlyargs + arguments.args + arguments.kwonlyargs]
+    names += [node.name for node in ast.walk(function) if isinstance(node, ast.ExceptHandler) and node.name]
     return names + [node.id for node in ast.walk(function) if isinstance(node, ast.Name) and isinstance(node.ctx, ast.Store)]
 
 

@@ -1,0 +1,140 @@
+"""Slow and plain ways to tell the same as the package, for tests to compare with.
+
+Kinds are handled as they are written, names are replaced one by one, and functions call themselves.
+"""
+
+from takeleave.basics import basic_kind
+from takeleave.fillings import filled_stack
+from takeleave.kinds import opens_of
+
+
+def replaced(part, name, by):
+    """A kind of things or of stacks with something in the place of an open name."""
+    if part[0] == "open":
+        return by if part[1] == name else part
+    if part[0] == "number":
+        return part
+    if part[0] == "list":
+        return ("list", replaced(part[1], name, by))
+    if part[0] == "row":
+        return ("row", replaced(part[1], name, by), replaced(part[2], name, by))
+    rest, kinds = part
+    kinds = tuple(replaced(kind, name, by) for kind in kinds)
+    return (by[0], by[1] + kinds) if rest == name else (rest, kinds)
+
+
+def stands_in(name, part):
+    """Whether an open name stands in a kind of things or of stacks."""
+    return replaced(part, name, ("open", "?") if name[0].islower() else ("?", ())) != part
+
+
+def solved(pairs):
+    """The dict of what stands for names so that the kinds of each pair are the same, or None."""
+    found = {}
+    pairs = list(pairs)
+    while pairs:
+        one, other = pairs.pop()
+        if one == other:
+            continue
+        bound = None
+        if one[0] == "open":
+            bound = (one[1], other)
+        elif other[0] == "open":
+            bound = (other[1], one)
+        elif is_thing_kind(one):
+            if one[0] != other[0]:
+                return None
+            pairs.extend(zip(one[1:], other[1:]))
+        elif one[1] and other[1]:
+            pairs.append((one[1][-1], other[1][-1]))
+            pairs.append(((one[0], one[1][:-1]), (other[0], other[1][:-1])))
+        elif not one[1] and one[0]:
+            bound = (one[0], other)
+        elif not other[1] and other[0]:
+            bound = (other[0], one)
+        else:
+            return None
+        if bound:
+            name, by = bound
+            if stands_in(name, by):
+                return None
+            pairs = [(replaced(first, name, by), replaced(second, name, by)) for first, second in pairs]
+            found = {each: replaced(found[each], name, by) for each in found}
+            found[name] = by
+    return found
+
+
+def is_thing_kind(part):
+    return part[0] in ("number", "list", "row", "open")
+
+
+class Asker:
+    """What the words of a row ask of kinds of stacks ahead of them and behind them, as pairs by their places."""
+
+    def __init__(self, told):
+        self.told = told
+        self.many = 0
+        self.pairs = {}
+
+    def fresh(self, letter):
+        self.many += 1
+        return f"{letter}{self.many}"
+
+    def own(self, kind):
+        """A row's kind with names of its own."""
+        names = opens_of(*kind)
+        new = {name: self.fresh("a" if name[0].islower() else "A") for name in names}
+        filling = tuple(sorted((name, ("open", new[name]) if name[0].islower() else (new[name], ())) for name in names))
+        return filled_stack(kind[0], filling), filled_stack(kind[1], filling)
+
+    def row(self, row, place=()):
+        """The stacks between the words of a row."""
+        stacks = [(self.fresh("A"), ()) for at in range(len(row) + 1)]
+        for at, word in enumerate(row):
+            here = place + (at,)
+            pairs = self.pairs.setdefault(here, [])
+            if isinstance(word, str):
+                take, leave = self.own(self.told[word] if word in self.told else basic_kind(word))
+                pairs.extend([(stacks[at], take), (stacks[at + 1], leave)])
+            else:
+                kind = self.thing(word[1], here, pairs)
+                below, = (stacks[at],)
+                pairs.append((stacks[at + 1], (below[0], below[1] + (kind,))))
+        return stacks
+
+    def thing(self, thing, place, pairs):
+        if thing[0] == "number":
+            return ("number",)
+        if thing[0] == "row":
+            stacks = self.row(thing[1], place)
+            return ("row", stacks[0], stacks[-1])
+        kind = ("open", self.fresh("a"))
+        for at, each in enumerate(thing[1]):
+            pairs.append((kind, self.thing(each, place + (at,), pairs)))
+        return ("list", kind)
+
+
+def asked_kind(row, places=None, told=None):
+    """The most open row's kind where the words at these places (all where None) are let by, or None."""
+    asker = Asker(told or {})
+    stacks = asker.row(row)
+    places = asker.pairs if places is None else places
+    found = solved([pair for place in places for pair in asker.pairs[place]])
+    if found is None:
+        return None
+    take, leave = stacks[0], stacks[-1]
+    for name, part in found.items():
+        take, leave = replaced(take, name, part), replaced(leave, name, part)
+    return take, leave
+
+
+def asked_least(row, told=None):
+    """The least set of places of a row without a kind, each place left out where it may be, from the last on."""
+    asker = Asker(told or {})
+    asker.row(row)
+    kept = sorted(asker.pairs)
+    for place in sorted(asker.pairs)[::-1]:
+        others = [other for other in kept if other != place]
+        if asked_kind(row, others, told) is None:
+            kept = others
+    return tuple(kept)
