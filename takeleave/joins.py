@@ -33,4 +33,4 @@ def filling_of(web, knots):
 
 def stays(name, part):
     """Whether what stands for a name is the name itself."""
-    return part == (name, ()) if is_open_rest(name) else part[0] == "open" and part[1] == name
+    return part == ((name, ()) if is_open_rest(name) else ("open", name))

@@ -77,9 +77,7 @@ def inner_roots(web, sort, root):
     if sort == "stack":
         return inner_of_stack(web, root)
     form = web.forms[root]
-    if form is None or form[0] == "number":
-        return []
-    inner_sort = "kind" if form[0] == "list" else "stack"
+    inner_sort = "stack" if form is not None and form[0] == "row" else "kind"
     return [(inner_sort, inner) for inner in web.knots_in(root)]
 
 

@@ -6,6 +6,8 @@ Kinds are handled as they are written, names are replaced one by one, and functi
 from takeleave.basics import basic_kind
 from takeleave.fillings import filled_stack
 from takeleave.kinds import opens_of
+from takeleave.shuffles import is_shuffle
+from takeleave.words import SORTS_TAKEN
 
 
 def replaced(part, name, by):
@@ -83,13 +85,13 @@ class Asker:
     def own(self, kind):
         """A row's kind with names of its own."""
         names = opens_of(*kind)
-        new = {name: self.fresh("a" if name[0].islower() else "A") for name in names}
+        new = {name: self.fresh("x" if name[0].islower() else "X") for name in names}
         filling = tuple(sorted((name, ("open", new[name]) if name[0].islower() else (new[name], ())) for name in names))
         return filled_stack(kind[0], filling), filled_stack(kind[1], filling)
 
     def row(self, row, place=()):
         """The stacks between the words of a row."""
-        stacks = [(self.fresh("A"), ()) for at in range(len(row) + 1)]
+        stacks = [(self.fresh("X"), ()) for at in range(len(row) + 1)]
         for at, word in enumerate(row):
             here = place + (at,)
             pairs = self.pairs.setdefault(here, [])
@@ -98,8 +100,7 @@ class Asker:
                 pairs.extend([(stacks[at], take), (stacks[at + 1], leave)])
             else:
                 kind = self.thing(word[1], here, pairs)
-                below, = (stacks[at],)
-                pairs.append((stacks[at + 1], (below[0], below[1] + (kind,))))
+                pairs.append((stacks[at + 1], (stacks[at][0], (kind,))))
         return stacks
 
     def thing(self, thing, place, pairs):
@@ -108,7 +109,7 @@ class Asker:
         if thing[0] == "row":
             stacks = self.row(thing[1], place)
             return ("row", stacks[0], stacks[-1])
-        kind = ("open", self.fresh("a"))
+        kind = ("open", self.fresh("x"))
         for at, each in enumerate(thing[1]):
             pairs.append((kind, self.thing(each, place + (at,), pairs)))
         return ("list", kind)
@@ -138,3 +139,56 @@ def asked_least(row, told=None):
         if asked_kind(row, others, told) is None:
             kept = others
     return tuple(kept)
+
+
+def plain_fits(stack, kind, told):
+    """Whether a stack is of a kind of stacks, where told has the kinds of told words."""
+    asker = Asker(told)
+    rest, tops = kind
+    pairs = []
+    many = len(stack) - len(tops)
+    if many < 0 or (rest == "" and many > 0):
+        return False
+    looked = list(zip(stack[many:], tops))
+    if rest and any(stands_in(rest, top) for top in tops):
+        beneath = tuple(("open", asker.fresh("x")) for thing in stack[:many])
+        pairs.append(((rest, ()), ("", beneath)))
+        looked += list(zip(stack[:many], beneath))
+    for thing, part in looked:
+        told_of_thing = plain_kind(thing, asker)
+        if told_of_thing is None:
+            return False
+        pairs.append((told_of_thing, part))
+    return solved(pairs) is not None
+
+
+def plain_kind(thing, asker):
+    """The kind of a thing, with names of its own, each row in it by its own found kind, or None."""
+    if thing[0] == "number":
+        return ("number",)
+    if thing[0] == "row":
+        if not all(is_known(text, asker.told) for text in texts_in(thing)):
+            return None
+        found = asked_kind(thing[1], None, asker.told)
+        return None if found is None else ("row", *asker.own(found))
+    part = ("open", asker.fresh("x"))
+    kinds = [plain_kind(each, asker) for each in thing[1]]
+    if None in kinds:
+        return None
+    found = solved([(part, kind) for kind in kinds])
+    if found is None:
+        return None
+    return ("list", found.get(part[1], part))
+
+
+def is_known(text, told):
+    return text in told or text in SORTS_TAKEN or is_shuffle(text)
+
+
+def texts_in(thing):
+    """The texts in a thing or a pushing word, in order."""
+    if thing[0] == "number":
+        return []
+    if thing[0] == "push":
+        return texts_in(thing[1])
+    return [text for part in thing[1] for text in ([part] if isinstance(part, str) else texts_in(part))]

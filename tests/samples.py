@@ -76,6 +76,27 @@ def word_by(chance, deep):
     return chance.choice(sorted(SORTS_TAKEN) + ["-", "a-", "a-aa", "ab-ba", "abc-bca", "f", "plusone", "zzzzzzzz"])
 
 
+def typed_rows_in(seed, many):
+    """So many rows made by chance from a seed, always the same, many of which have a kind, with told words f, g, h."""
+    chance = random.Random(seed)
+    return [typed_row_by(chance, 3, chance.randrange(1, 10)) for at in range(many)]
+
+
+def typed_row_by(chance, deep, many):
+    words = sorted(SORTS_TAKEN) + ["-", "a-", "a-aa", "ab-ba", "abc-bca", "ab-aba", "f", "g", "h"]
+    return tuple([("push", typed_thing_by(chance, deep)) if chance.random() < 0.45 else chance.choice(words)
+                  for at in range(many)])
+
+
+def typed_thing_by(chance, deep):
+    sort = chance.choice(("number", "row", "row", "list")) if deep else "number"
+    if sort == "number":
+        return ("number", chance.randrange(5))
+    if sort == "row":
+        return ("row", typed_row_by(chance, deep - 1, chance.randrange(4)))
+    return ("list", tuple([typed_thing_by(chance, deep - 1) for at in range(chance.randrange(3))]))
+
+
 def row_kinds_in(seed, many):
     """So many rows' kinds made by chance from a seed, always the same."""
     chance = random.Random(seed)

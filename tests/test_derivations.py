@@ -303,6 +303,10 @@ class FilledBy(unittest.TestCase):
             (of("B"), of("C number")),
             ((of("B"), of("A")), (of("C number"), of(""))),
             (((of("B"), of("A")), (of("A"), of("B"))), ((of("C number"), of("")), (of(""), of("C number")))),
+            ((None, inner), (None, filled_inner)),
+            ((inner, None), (filled_inner, None)),
+            (((), None), ((), None)),
+            ((None, ()), (None, ())),
         ):
             told = filled_by(of("A", "A a", "A", inner=[within, None]), by)
             self.assertEqual(told, of("", "number", "", inner=[filled_within, None]), within)

@@ -5,6 +5,7 @@ import unittest
 from takeleave.places import places_of, word_at
 from takeleave.texts import read_row
 from takeleave.things import words_in
+from tests.oracle import texts_in
 from tests.samples import rows_in
 
 
@@ -76,18 +77,4 @@ class WordAt(unittest.TestCase):
     def test_the_words_in_order_are_those_of_the_text(self):
         for row in rows_in(72, 100):
             texts = [word_at(row, place) for place in places_of(row)]
-            self.assertEqual([word for word in texts if isinstance(word, str)], texts_in(row))
-
-
-def texts_in(row):
-    """The texts of a row in order, found by calls within calls."""
-    found = []
-    for word in row:
-        found += [word] if isinstance(word, str) else texts_in_thing(word[1])
-    return found
-
-
-def texts_in_thing(thing):
-    if thing[0] == "row":
-        return texts_in(thing[1])
-    return [text for each in thing[1] for text in texts_in_thing(each)] if thing[0] == "list" else []
+            self.assertEqual([word for word in texts if isinstance(word, str)], texts_in(("row", row)))
