@@ -1,6 +1,5 @@
 """The found kind of a row, with a derivation that has it."""
 
-import random
 import unittest
 
 from takeleave.basics import basic_kind
