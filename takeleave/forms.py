@@ -26,3 +26,18 @@ def has_form(sort, thing, asked_within):
             return False
         waiting.extend(inner)
     return True
+
+
+def is_equal(one, other):
+    """Whether two values of tuples, texts and whole numbers are the same."""
+    # Not by == alone, which goes only as deep into tuples as calls may go.
+    waiting = [(one, other)]
+    while waiting:
+        left, right = waiting.pop()
+        if isinstance(left, tuple) and isinstance(right, tuple):
+            if len(left) != len(right):
+                return False
+            waiting.extend(list(zip(left, right)))
+        elif isinstance(left, tuple) or isinstance(right, tuple) or left != right:
+            return False
+    return True

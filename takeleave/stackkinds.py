@@ -2,6 +2,7 @@
 
 from takeleave.errors import NoWord
 from takeleave.kinds import opens_of
+from takeleave.pushes import pushes_of
 from takeleave.weaving import all_tied, woven
 from takeleave.webkinds import no_names, stack_knot, told_parts
 from takeleave.wordkinds import told_kinds
@@ -33,7 +34,7 @@ def stack_in_web(stack, told):
     # A row that is pushed has its found kind, filled as what stands around it asks: so the things are woven as
     # those that a row of pushes leaves on no things at all.
     try:
-        weave = woven(tuple([("push", thing) for thing in stack]), told)
+        weave = woven(pushes_of(stack), told)
     except NoWord:
         return None, None
     web = all_tied(weave)

@@ -1,6 +1,7 @@
 """What a step does, word by word."""
 
 from takeleave.errors import NoStep
+from takeleave.pushes import push_row
 from takeleave.shuffles import is_shuffle, taken_left
 from takeleave.things import NUMBERS
 from takeleave.words import SORTS_TAKEN, is_basic
@@ -9,11 +10,6 @@ from takeleave.words import SORTS_TAKEN, is_basic
 def number_thing(n):
     """The number n, as the rest by 10 ** 12, as a thing."""
     return ("number", n % NUMBERS)
-
-
-def push_row(row):
-    """The word that pushes a row."""
-    return ("push", ("row", row))
 
 
 # Each of the following tells, of what a basic word takes, the things that it leaves and the words that it puts

@@ -4,9 +4,13 @@ Kinds are handled as they are written, names are replaced one by one, and functi
 """
 
 from takeleave.basics import basic_kind
+from takeleave.errors import NoStep
 from takeleave.fillings import filled_stack
 from takeleave.kinds import opens_of
-from takeleave.shuffles import is_shuffle
+from takeleave.maps import least_map, map_of
+from takeleave.runs import run
+from takeleave.shuffles import is_shuffle, taken_left
+from takeleave.steps import step, takes_of
 from takeleave.words import SORTS_TAKEN
 
 
@@ -192,3 +196,157 @@ def texts_in(thing):
     if thing[0] == "push":
         return texts_in(thing[1])
     return [text for part in thing[1] for text in ([part] if isinstance(part, str) else texts_in(part))]
+
+
+def things_done(row, many=100):
+    """What a row of shuffles makes of the stack of so many numbers, as numbers."""
+    how, steps, (stack, todo) = run(row, tuple([("number", number) for number in range(many)]), 10 ** 6)
+    assert how == "ended"
+    return [n for sort, n in stack]
+
+
+def is_shuffles(row):
+    return all(is_shuffle(word) for word in row)
+
+
+def plain_turns(rule, old, new, book=None):
+    """Whether one of two stretches turns to the other by a rule."""
+    return plain_leads(rule, old, new, book) or plain_leads(rule, new, old, book)
+
+
+def plain_leads(rule, left, right, book):
+    """Whether a stretch turns to another one by a rule, left to right."""
+    match rule, left:
+        case "mapped", _:
+            return is_shuffles(left) and is_shuffles(right) and things_done(left) == things_done(right)
+        case "stepped", (*pushes, str(text)) if not any(isinstance(word, str) for word in pushes):
+            try:
+                stack, todo = step((tuple(word[1] for word in pushes), (text,)), book)
+            except NoStep:
+                return False
+            return right == tuple(("push", thing) for thing in stack) + todo
+        case "turned", ("ab-ba", "plus" | "times" | "same" as word):
+            return right == (word,)
+        case "dips", (("push", ("row", p)), "dip", ("push", ("row", q)), "dip"):
+            return right == (("push", ("row", p + q)), "dip")
+        case "beneath", (("push", ("row", (("push", x),))), "dip"):
+            return right == (("push", x), "ab-ba")
+        case "slid", (("push", ("row", (str(word),))), "dip") if is_shuffle(word):
+            return len(right) == 1 and is_shuffles(right) and things_done(right) == things_done((word,), 99) + [99]
+        case "emptied", (("push", ("row", ())), "dip"):
+            return right == ("a-a",)
+    return False
+
+
+def plain_may_enter(row, number):
+    """Whether a row may be entered at a word that has this number."""
+    def is_row_push(at):
+        return 0 <= at < len(row) and not isinstance(row[at], str) and row[at][1][0] == "row"
+    behind = row[number + 1:] + (None, None)
+    if not is_row_push(number):
+        return False
+    if behind[0] in ("do", "dip", "repeat", "each"):
+        return True
+    first = is_row_push(number + 1) and behind[1] in ("if", "while", "part")
+    return first or (is_row_push(number - 1) and behind[0] in ("if", "while", "part"))
+
+
+def plain_turned(row, turn, book=None):
+    """The row that a turn of the right form makes of a row, or None."""
+    (number, *inner), many, rule, new = turn
+    if number < 0 or number > len(row):
+        return None
+    if inner:
+        if number == len(row) or not plain_may_enter(row, number):
+            return None
+        made = plain_turned(row[number][1][1], (inner, many, rule, new), book)
+        return None if made is None else row[:number] + (("push", ("row", made)),) + row[number + 1:]
+    if number + many > len(row) or not plain_turns(rule, row[number:number + many], new, book):
+        return None
+    return row[:number] + new + row[number + many:]
+
+
+def plain_paper(one, other, paper, book=None):
+    """Whether a tuple of turns of the right form leads from one row to another one."""
+    for turn in paper:
+        one = plain_turned(one, turn, book)
+        if one is None:
+            return False
+    return one == other
+
+
+def plain_words(row):
+    """How many words a row has in all."""
+    return sum(1 if isinstance(word, str) else 1 + plain_words_of_thing(word[1]) for word in row)
+
+
+def plain_words_of_thing(thing):
+    if thing[0] == "number":
+        return 0
+    if thing[0] == "row":
+        return plain_words(thing[1])
+    return sum(plain_words_of_thing(each) for each in thing[1])
+
+
+def plain_candidates(row, at, book):
+    """What is tried to put a row shorter at a word: triples of how many words, the rule, and the new words."""
+    for end in range(at, len(row)):
+        word = row[end]
+        if isinstance(word, str):
+            takes = takes_of(word) if word in SORTS_TAKEN or is_shuffle(word) else 0
+            if takes == end - at:
+                try:
+                    stack, todo = step((tuple(push[1] for push in row[at:end]), (word,)), book)
+                except NoStep:
+                    break
+                yield end + 1 - at, "stepped", tuple(("push", thing) for thing in stack) + todo
+            break
+    here, two = row[at], row[at:at + 2]
+    if len(two) == 2 and is_shuffles(two):
+        yield from [(2, "mapped", (text,)) for text in plain_shuffle(map_of(two))]
+    if is_shuffles((here,)) and map_of((here,)) == (0, ()):
+        yield 1, "mapped", ()
+    if two in (("ab-ba", "plus"), ("ab-ba", "times"), ("ab-ba", "same")):
+        yield 2, "turned", two[1:]
+    if len(two) < 2 or two[1] != "dip" or isinstance(here, str) or here[1][0] != "row":
+        return
+    p, four = here[1][1], row[at:at + 4]
+    if len(four) == 4 and four[3] == "dip" and not isinstance(four[2], str) and four[2][1][0] == "row":
+        yield 4, "dips", (("push", ("row", p + four[2][1][1])), "dip")
+    if len(p) == 1 and not isinstance(p[0], str):
+        yield 2, "beneath", (p[0], "ab-ba")
+    if len(p) == 1 and is_shuffles(p):
+        n, picks = taken_left(p[0])
+        yield from [(2, "slid", (text,)) for text in plain_shuffle(least_map(n + 1, picks + (n,)))]
+    if p == ():
+        yield 2, "emptied", ("a-a",)
+
+
+def plain_shuffle(done):
+    """A list of the shuffle of a map, without any where it has too many letters."""
+    n, picks = done
+    if n > 8 or len(picks) > 12:
+        return []
+    return ["abcdefgh"[:n] + "-" + "".join("abcdefgh"[pick] for pick in picks)]
+
+
+def plain_first_turn(row, book, place=()):
+    """The first turn that makes the words fewer, or None."""
+    for at, word in enumerate(row):
+        for many, rule, new in plain_candidates(row, at, book):
+            if plain_words(new) < plain_words(row[at:at + many]):
+                return place + (at,), many, rule, new
+        if plain_may_enter(row, at):
+            turn = plain_first_turn(word[1][1], book, place + (at,))
+            if turn is not None:
+                return turn
+    return None
+
+
+def plain_shorter(row, book=None):
+    """A row put shorter, and the paper of the turns."""
+    paper = []
+    while (turn := plain_first_turn(row, book)) is not None:
+        paper.append(turn)
+        row = plain_turned(row, turn, book)
+    return row, tuple(paper)
