@@ -350,3 +350,112 @@ def plain_shorter(row, book=None):
         paper.append(turn)
         row = plain_turned(row, turn, book)
     return row, tuple(paper)
+
+
+class Uncoded(Exception):
+    """A word without a code."""
+
+
+class Walk:
+    """A row gone through with things that are known, and None for those that are not, by calls within calls."""
+
+    def __init__(self, book):
+        self.rows = {name: row for name, told, row in book or ()}
+        self.many = 0
+
+    def through(self, row, stack, names):
+        """Go through a row on a stack that is a list; tells how many things were taken from beneath."""
+        beneath = 0
+        for word in row:
+            beneath += self.word(word, stack, names)
+        return beneath
+
+    def word(self, word, stack, names):
+        self.many += 1
+        if self.many > 1000:
+            raise Uncoded
+        if not isinstance(word, str):
+            stack.append(word[1])
+            return 0
+        if word not in SORTS_TAKEN and not is_shuffle(word):
+            if word not in self.rows or word in names:
+                raise Uncoded
+            return self.through(self.rows[word], stack, names + (word,))
+        beneath = max(0, takes_of(word) - len(stack))
+        stack[:0] = [None] * beneath
+        taken = [stack.pop() for at in range(takes_of(word))][::-1]
+        if is_shuffle(word):
+            stack.extend(taken[pick] for pick in taken_left(word)[1])
+            return beneath
+        return beneath + self.basic(word, taken, stack, names)
+
+    def basic(self, word, taken, stack, names):
+        if word in ("while", "repeat", "part", "each"):
+            raise Uncoded
+        for sort, thing in zip(SORTS_TAKEN[word], taken):
+            if thing is not None and sort != "any" and thing[0] != sort:
+                raise Uncoded
+            if thing is None and sort == "row" and word in ("do", "dip", "if"):
+                raise Uncoded
+        if word == "do":
+            return self.through(taken[0][1], stack, names)
+        if word == "dip":
+            beneath = self.through(taken[1][1], stack, names)
+            stack.append(taken[0])
+            return beneath
+        if word == "if":
+            return self.choice(taken, stack, names)
+        if None in taken:
+            stack.append(None)
+            return 0
+        made = step((tuple(taken), (word,)))[0][0]
+        if plain_parts(made) > 400 or plain_depth(made) > 100:
+            raise Uncoded
+        stack.append(made)
+        return 0
+
+    def choice(self, taken, stack, names):
+        number, one, other = taken
+        if number is not None:
+            return self.through(one[1] if number[1] else other[1], stack, names)
+        sides = []
+        for row in (one[1], other[1]):
+            left = []
+            takes = self.through(row, left, names)
+            sides.append((takes, len(left) - takes))
+        if sides[0][1] != sides[1][1]:
+            raise Uncoded
+        takes = max(sides[0][0], sides[1][0])
+        beneath = max(0, takes - len(stack))
+        stack[:0] = [None] * beneath
+        del stack[len(stack) - takes:]
+        stack.extend([None] * (takes + sides[0][1]))
+        return beneath
+
+
+def plain_parts(thing):
+    """How many words and things of lists a thing has in all."""
+    if thing[0] == "number":
+        return 0
+    inner = thing[1] if thing[0] == "list" else [word[1] for word in thing[1] if not isinstance(word, str)]
+    return len(thing[1]) + sum(plain_parts(each) for each in inner)
+
+
+def plain_depth(thing):
+    """How many brackets deep a thing is."""
+    if thing[0] == "number":
+        return 0
+    inner = thing[1] if thing[0] == "list" else [word[1] for word in thing[1] if not isinstance(word, str)]
+    return 1 + max([plain_depth(each) for each in inner], default=0)
+
+
+def plain_coded(row, book=None):
+    """("code", takes, how many are left) of a row with a code; ("none", place) of one without."""
+    walk = Walk(book)
+    stack, takes = [], 0
+    for number, word in enumerate(row):
+        try:
+            takes += walk.word(word, stack, ())
+        except Uncoded:
+            return "none", (number,)
+    return "code", takes, len(stack)

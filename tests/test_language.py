@@ -204,6 +204,36 @@ class Code(unittest.TestCase):
                 if isinstance(node, ast.Constant):
                     self.assertNotIsInstance(node.value, (float, complex), (name, node.lineno))
 
+    def test_stars_in_calls(self):
+        for name, tree in trees().items():
+            for node in ast.walk(tree):
+                if isinstance(node, ast.Call):
+                    for part in node.args:
+                        if isinstance(part, ast.Starred):
+                            self.assertIsInstance(part.value, (ast.Name, ast.Attribute), (name, node.lineno))
+                    self.assertNotIn(None, [word.arg for word in node.keywords], (name, node.lineno))
+
+    def test_what_is_iterated_at_once_is_not_kept(self):
+        for name, tree in trees().items():
+            for node in ast.walk(tree):
+                if isinstance(node, (ast.Assign, ast.Return)) and isinstance(node.value, ast.Call):
+                    called = node.value.func
+                    at_once = getattr(called, "id", None) or getattr(called, "attr", None)
+                    self.assertNotIn(at_once, ("zip", "enumerate", "reversed", "range", "items", "keys", "values"),
+                                     (name, node.lineno))
+
+    def test_what_a_loop_goes_through_is_not_changed_in_it(self):
+        changing = ("append", "clear", "extend", "insert", "pop", "remove", "reverse", "setdefault", "update", "sort")
+        for name, tree in trees().items():
+            for loop in [node for node in ast.walk(tree) if isinstance(node, ast.For)]:
+                gone_through = {ast.unparse(node) for node in ast.walk(loop.iter)
+                                if isinstance(node, (ast.Name, ast.Attribute))}
+                for node in ast.walk(ast.Module(loop.body, [])):
+                    if isinstance(node, ast.Attribute) and node.attr in changing:
+                        self.assertNotIn(ast.unparse(node.value), gone_through, (name, node.lineno))
+                    if isinstance(node, ast.Subscript) and not isinstance(node.ctx, ast.Load):
+                        self.assertNotIn(ast.unparse(node.value), gone_through, (name, node.lineno))
+
     def test_no_function_comes_to_itself(self):
         leads = {}
         for tree in trees().values():
