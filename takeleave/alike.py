@@ -2,9 +2,9 @@
 
 from takeleave.forms import is_equal
 from takeleave.maps import parting
-from takeleave.rules import is_shuffle_row
 from takeleave.runs import advance, begun
 from takeleave.shorter import shorter
+from takeleave.shuffles import is_shuffle_row
 from takeleave.sizes import is_bounded
 from takeleave.texts import show_stack
 from takeleave.turns import turned_back

@@ -1,6 +1,6 @@
 """Codes for a machine with registers, and running them.
 
-Registers are called cells here, as that word may not be a name.
+Registers are called cells here, as `register` may not be a name.
 """
 
 from takeleave.errors import NoStep

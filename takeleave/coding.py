@@ -5,6 +5,7 @@ isn't yet known how many things it takes: so registers are numbered from the fir
 from beneath below 0, the top first.
 """
 
+from takeleave.books import rows_told
 from takeleave.errors import NoCode
 from takeleave.shuffles import is_shuffle, taken_left
 from takeleave.sizes import is_bounded
@@ -103,7 +104,7 @@ class Going:
     """
 
     def __init__(self, book):
-        self.told_rows = {name: row for name, told, row in book or ()}
+        self.told_rows = rows_told(book)
         self.tracks = [Track(())]
         self.choices = []
         self.place = ()

@@ -113,9 +113,8 @@ def read_asked(asked, rest, parts):
 
 def read_told(rest, row):
     """The told word with a name and perhaps a kind, a blank ahead of each."""
-    ahead, blank, named = rest.partition(" ")
-    name, parted, kind = named.partition(" ")
-    if blank == "" or not is_name(name):
+    name, parted, kind = rest[1:].partition(" ")
+    if not is_name(name):
         raise NoRow("this is no name")
     told = None if parted == "" else read_kind(kind)
     return name, told, row

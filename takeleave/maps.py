@@ -1,7 +1,7 @@
 """Shuffles as maps: which of the things on top are left, and in which order."""
 
 from takeleave.errors import NoShuffle
-from takeleave.shuffles import is_shuffle, taken_left
+from takeleave.shuffles import is_shuffle_row, taken_left
 
 
 def least_map(n, picks):
@@ -26,7 +26,7 @@ def need_of(row):
 
 def whole_map(row):
     """The map of a row of shuffles on all things that there must be."""
-    if not all([is_shuffle(word) for word in row]):
+    if not is_shuffle_row(row):
         raise NoShuffle("a row with words other than shuffles has no map")
     # Things are numbered from the top of the stack downwards, as it is not yet known how many there must be.
     need = 0

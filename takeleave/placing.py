@@ -1,5 +1,6 @@
 """Told words put in place: the row of a told word stands for its name."""
 
+from takeleave.books import rows_told
 from takeleave.marks import marks_of_text
 from takeleave.places import placed_words
 from takeleave.texts import read_row, read_stack, show_row, show_stack
@@ -19,11 +20,6 @@ def comes_to_itself(name, book):
                 seen[text] = True
                 waiting.append(text)
     return False
-
-
-def rows_told(book):
-    """A dict of the row of each told word of a book."""
-    return {name: row for name, told, row in book or ()}
 
 
 def texts_in(row):

@@ -4,7 +4,7 @@ from takeleave.errors import NoStep
 from takeleave.forms import is_equal
 from takeleave.maps import least_map, map_of
 from takeleave.pushes import is_push, is_row_push, push_row, pushes_of, row_pushed
-from takeleave.shuffles import is_shuffle, taken_left
+from takeleave.shuffles import is_shuffle, is_shuffle_row, taken_left
 from takeleave.steps import step
 
 EXCHANGE = "ab-ba"
@@ -29,11 +29,6 @@ def leads_to(rule, left, right, book):
     make = MADE_BY[rule]
     made = make(left, book)
     return made is not None and is_equal(made, right)
-
-
-def is_shuffle_row(row):
-    """Whether all words of a row are shuffles."""
-    return all([is_shuffle(word) for word in row])
 
 
 def is_slid(left, right):

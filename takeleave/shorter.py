@@ -3,8 +3,8 @@
 from takeleave.errors import NoShuffle
 from takeleave.maps import map_of
 from takeleave.pushes import is_push, row_pushed
-from takeleave.rules import beneath_made, dips_made, emptied_made, is_shuffle_row, slid_map, stepped_made, turned_made
-from takeleave.shuffles import is_shuffle, shuffle_of
+from takeleave.rules import beneath_made, dips_made, emptied_made, slid_map, stepped_made, turned_made
+from takeleave.shuffles import is_shuffle, is_shuffle_row, shuffle_of
 from takeleave.steps import takes_of
 from takeleave.things import words_in
 from takeleave.turns import may_enter, turned

@@ -16,6 +16,11 @@ def is_shuffle(thing):
     return len(left) <= MOST_LEFT and all([letter in taken for letter in left])
 
 
+def is_shuffle_row(row):
+    """Whether all words of a row are shuffles."""
+    return all([is_shuffle(word) for word in row])
+
+
 def taken_left(shuffle):
     """How many things a shuffle takes, and the numbers of those that it leaves, the lowest thing being 0."""
     if not is_shuffle(shuffle):

@@ -6,6 +6,7 @@ from takeleave.alike import alike
 from takeleave.maps import map_of, parting
 from takeleave.runs import run
 from takeleave.shorter import shorter
+from takeleave.shuffles import is_shuffle
 from takeleave.texts import read_row, read_stack, show_row
 from takeleave.things import is_stack
 from takeleave.turns import paper_holds
@@ -56,6 +57,11 @@ TOLD = (
     ("[ 1 ] [ ] while", "[ 2 ] [ ] while", "open"),
     ("999 [ 1 plus ] repeat", "999 plus", "open"),
     ("[ f ] a-aa join do", "[ f f ] do", "open"),
+    # Numbers 0 to 4 alone are tried, and at most eight.
+    ("4 same", "a- 0", "parted"),
+    ("5 same", "a- 0", "open"),
+    ("abcdefg- 1 plus", "abcdefg- 2 plus", "parted"),
+    ("abcdefgh- 1 plus", "abcdefgh- 2 plus", "open"),
 )
 
 
@@ -77,6 +83,9 @@ class Alike(unittest.TestCase):
                 ends = [run(row, told[1], 400, book) for row in (left, right)]
                 self.assertEqual([end[0] for end in ends], ["ended", "ended"], texts)
                 self.assertNotEqual(ends[0][2], ends[1][2], texts)
+                if not all(is_shuffle(word) for word in left + right):
+                    self.assertLessEqual(len(told[1]), 8, texts)
+                    self.assertLessEqual(set(told[1]), set(read_stack("0 1 2 3 4")), texts)
             else:
                 self.assertEqual(told, ("open",))
             sorts.append(told[0])

@@ -81,6 +81,9 @@ NO_CODES = (
     (2, (("if", 1, (0,), DOUBLE, (1, (), (1,))),), ()), (2, (("if", 1, (0,), (1, (("wrap", 1),), (0,)), NEXT),), ()),
     (2, (("if", 1, (0,), DOUBLE, (1, (("if", 0, (0,), DOUBLE, (1, (), (2,))),), (1,))),), ()),
     (2, (("if", 1, (0,), DOUBLE, NEXT),), (3,)), (2, (("if", 1, (0,), (1, (), ()), (1, (), ())),), (2,)),
+    # Sides that take another number of things, and leave as many as the other one.
+    (2, (("if", 1, (0,), (0, (("push", ONE),), (0,)), NEXT),), ()), (2, (("if", 1, (0,), NEXT, (2, (), (1,))),), ()),
+    (2, (("if", 1, (), (0, (("push", ONE),), (0,)), NEXT),), ()), (2, (("if", 1, (0, 0), NEXT, NEXT),), ()),
     (2, (("if", 1, (0,), DOUBLE, NEXT), ("wrap", 3)), (3,)),
 )
 

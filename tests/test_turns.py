@@ -192,6 +192,8 @@ class Entering(unittest.TestCase):
             for number in (-len(row) - 1, -len(row), -3, -2, -1, len(row), len(row) + 1, 10 ** 40):
                 if not 0 <= number < len(row):
                     self.assertIs(may_enter(row, number), False, (text, number))
+            for truth in (True, False):
+                self.assertIs(may_enter(row, truth), False, (text, truth))
 
     def test_rows_by_the_counter(self):
         entered = 0
